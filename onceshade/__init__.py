@@ -1,0 +1,1 @@
+"""Bodies in space, painted on a board of dots, each dot once."""
