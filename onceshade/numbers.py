@@ -40,6 +40,11 @@ def lowest_terms(numbers):
     return tuple([number // shared for number in numbers])
 
 
+def products_added(one, other):
+    """Add up the products of two rows of as many numbers, place by place."""
+    return sum([first * second for first, second in zip(one, other)])
+
+
 def determinant(a, b, c):
     """Tell the determinant of three rows of three numbers."""
     return (
