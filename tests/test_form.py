@@ -1,4 +1,4 @@
-"""The form of the package's code: those rules of the language that can be read off its syntax."""
+"""The form of the package's code: some of the rules of the language, as far as its syntax shows them."""
 
 import ast
 import builtins
