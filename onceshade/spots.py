@@ -26,11 +26,16 @@ def side(a, b, dot):
     return sign(side_number(a, b, dot))
 
 
+def growth(a, b):
+    """Tell by how much the side number of spots a, b grows from a dot to the next one to the right."""
+    return a[1] * b[3] - a[3] * b[1]
+
+
 def shifted_side(a, b, dot):
     """Tell the side for the dot moved right by next to nothing, and down by next to nothing of that."""
     number = side_number(a, b, dot)
     if number == 0:
-        number = a[1] * b[3] - a[3] * b[1]
+        number = growth(a, b)
     if number == 0:
         number = a[3] * b[0] - a[0] * b[3]
     return sign(number)

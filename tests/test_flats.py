@@ -7,9 +7,8 @@ from onceshade.flats import area, cut, cut_all, turn, worth
 from onceshade.numbers import plus
 from onceshade.spots import spot
 from helpers import ANY_THINGS, GREATEST, asks_again, is_tuple_of_whole, refused
+from samples import AWAY, HERE
 
-HERE = ((0, 0, 1, 1), (4, 0, 1, 1), (0, 4, 1, 1))
-AWAY = ((0, 0, 1, 1), (0, 4, 1, 1), (4, 0, 1, 1))
 EDGE_ON = ((0, 0, 0, 1), (2, 2, 5, 1), (4, 4, 0, 1))
 FACES = [
     HERE, AWAY, EDGE_ON,

@@ -1,0 +1,49 @@
+"""What is told of faces at dots, reckoned another way: by Python's fractions, from where the spots stand."""
+
+from fractions import Fraction
+
+# So little, beside the numbers of all faces asked about, that it stands for next to nothing.
+BIT = Fraction(1, 10 ** 300)
+
+
+def standing(numbers):
+    x, y, z, w = numbers
+    return (Fraction(x, w), Fraction(y, w), Fraction(z, w))
+
+
+def across(one, other):
+    return one[0] * other[1] - one[1] * other[0]
+
+
+def parts_of_way(face, place):
+    """Where p is a + s (b - a) + t (c - a): s and t; None where the face is edge on."""
+    a, b, c = [standing(corner) for corner in face]
+    there, back, way = [(q[0] - a[0], q[1] - a[1]) for q in (b, c, place)]
+    whole = across(there, back)
+    if whole == 0:
+        return None
+    return (across(way, back) / whole, across(there, way) / whole)
+
+
+def shares_reckoned(face, place):
+    way = parts_of_way(face, place)
+    return None if way is None else (1 - way[0] - way[1], way[0], way[1])
+
+
+def has_reckoned(face, dot):
+    """Whether the dot, moved right by a bit and down by a bit of that, lies within the face."""
+    found = shares_reckoned(face, (dot[0] + BIT, dot[1] + BIT * BIT))
+    return found is not None and min(found) > 0
+
+
+def depth_reckoned(face, dot):
+    return sum(share * standing(corner)[2] for share, corner in zip(shares_reckoned(face, dot), face))
+
+
+def seen_reckoned(faces, dot):
+    found = [(depth_reckoned(face, dot), at) for at, face in enumerate(faces) if has_reckoned(face, dot)]
+    return min(found)[1] if found else None
+
+
+def as_pair(number):
+    return (number.numerator, number.denominator)
