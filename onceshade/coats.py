@@ -4,28 +4,25 @@ from onceshade.depths import weights
 from onceshade.dots import has_dot
 from onceshade.errors import NoFace
 from onceshade.flats import turn
-from onceshade.numbers import fraction, plus, times, whole_part
+from onceshade.numbers import fraction, products_added
+
+
+def share_tops(face, dot):
+    """Tell what the shares of a face's corners at a dot that it has are when multiplied by its turn."""
+    if not has_dot(face, dot):
+        raise NoFace("the face does not have the dot")
+    return [weight * corner[3] for weight, corner in zip(weights(face, dot), face)]
 
 
 def shares(face, dot):
     """Tell the shares of a face's corners at a dot that it has: three fractions that come to 1."""
-    if not has_dot(face, dot):
-        raise NoFace("the face does not have the dot")
     whole = turn(face)
-    return tuple([fraction(weight * corner[3], whole) for weight, corner in zip(weights(face, dot), face)])
+    return tuple([fraction(top, whole) for top in share_tops(face, dot)])
 
 
-def blended(numbers, portions):
-    """Tell the greatest whole number that is at most the corners' numbers, each times its share, added."""
-    total = (0, 1)
-    for number, portion in zip(numbers, portions):
-        total = plus(total, times((number, 1), portion))
-    return whole_part(total)
-
-
-def woven_colour(colours, portions):
-    """Tell the colour woven of the colours of the three corners."""
-    return tuple([blended([colour[at] for colour in colours], portions) for at in range(3)])
+def blended(told, tops, whole):
+    """Tell, place by place, the greatest whole number at most the corners' numbers, each times its share, added."""
+    return [products_added([one[at] for one in told], tops) // whole for at in range(len(told[0]))]
 
 
 def nearest_place(number, many):
@@ -33,18 +30,16 @@ def nearest_place(number, many):
     return min(max(number, 0), many - 1)
 
 
-def picture_colour(rows, places, portions):
-    """Tell the colour that stands in rows of colours at the place blended of the corners' places (u, v)."""
-    row = rows[nearest_place(blended([v for u, v in places], portions), len(rows))]
-    return row[nearest_place(blended([u for u, v in places], portions), len(row))]
-
-
 def coat_at(coat, face, dot):
     """Tell the colour of a coat at a dot that the face has."""
     # Asked ahead of the kind of coat: a plain one has no colour beyond the face either.
-    portions = shares(face, dot)
+    tops = share_tops(face, dot)
+    whole = turn(face)
     if coat[0] == "plain":
         return coat[1]
     if coat[0] == "woven":
-        return woven_colour(coat[1:], portions)
-    return picture_colour(coat[1], coat[2:], portions)
+        return tuple(blended(coat[1:], tops, whole))
+    rows = coat[1]
+    u, v = blended(coat[2:], tops, whole)
+    row = rows[nearest_place(v, len(rows))]
+    return row[nearest_place(u, len(row))]

@@ -4,7 +4,7 @@ from onceshade.boards import check_board
 from onceshade.dots import has_dot
 from onceshade.errors import NoFace
 from onceshade.flats import turn
-from onceshade.numbers import fraction, is_less, products_added
+from onceshade.numbers import fraction, is_less, products_added, sign
 from onceshade.spots import side_number
 
 
@@ -14,12 +14,20 @@ def weights(face, dot):
     return (side_number(b, c, dot), side_number(c, a, dot), side_number(a, b, dot))
 
 
-def depth_at(face, dot):
-    """Tell the depth of a face, that is of its flat, at any dot."""
+def unreduced_depth(face, dot):
+    """Tell the depth of a face at any dot as (top, bottom), bottom from 1 on, common divisors left in."""
+    # Enough to compare depths by; of great numbers the common divisors would take long to find.
     whole = turn(face)
     if whole == 0:
         raise NoFace("a face edge on has no depth")
-    return fraction(products_added(weights(face, dot), [corner[2] for corner in face]), whole)
+    top = products_added(weights(face, dot), [corner[2] for corner in face])
+    return (top * sign(whole), abs(whole))
+
+
+def depth_at(face, dot):
+    """Tell the depth of a face, that is of its flat, at any dot."""
+    top, bottom = unreduced_depth(face, dot)
+    return fraction(top, bottom)
 
 
 def seen_at(faces, dot):
@@ -28,7 +36,7 @@ def seen_at(faces, dot):
     least = None
     for number, face in enumerate(faces):
         if has_dot(face, dot):
-            depth = depth_at(face, dot)
+            depth = unreduced_depth(face, dot)
             # Only what is nearer stands ahead of a face of a lesser number.
             if seen is None or is_less(depth, least):
                 seen = number

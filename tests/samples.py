@@ -96,3 +96,17 @@ EDGE_ON = [
     ((-GREATEST, -GREATEST, 0, 1), (1, 1, 7, 1), (GREATEST, GREATEST, 0, 2)),
 ]
 BOARD_FACES = WHOLE_FACES + PART_FACES + GREAT_FACES
+
+RED, GREEN, BLUE = (255, 0, 0), (0, 255, 0), (0, 0, 255)
+# Rows of unlike colours: each tells where it stands, row first.
+SIX = [[(row, place, 200) for place in range(6)] for row in range(6)]
+COATS = [
+    ("plain", (7, 0, 255)), ("plain", (0, 0, 0)), ("plain", (255, 255, 255)),
+    ("woven", (255, 0, 10), (0, 255, 20), (3, 4, 250)), ("woven", RED, RED, RED),
+    ("woven", (0, 0, 0), (255, 255, 255), (1, 2, 3)),
+    ("picture", SIX, (0, 0), (6, 0), (0, 6)),
+    ("picture", [[RED]], (0, 0), (0, 0), (0, 0)),
+    ("picture", [[RED, GREEN, BLUE]], (-3, -3), (5, 1), (1, 5)),
+    ("picture", [[RED], [GREEN], [BLUE]], (-3, -3), (5, 1), (1, 5)),
+    ("picture", SIX, (GREATEST, -GREATEST), (-GREATEST, GREATEST), (3, 3)),
+]

@@ -7,23 +7,11 @@ from onceshade.errors import NoFace
 from onceshade.numbers import plus
 from helpers import GREATEST, asks_again, is_tuple_of_whole, refused
 from reckon import as_pair, shares_reckoned
-from samples import AWAY, BOARD_FACES, EDGE_ON, HERE
+from samples import AWAY, BLUE, BOARD_FACES, COATS, EDGE_ON, HERE, SIX
 
-RED, GREEN, BLUE = (255, 0, 0), (0, 255, 0), (0, 0, 255)
 DOTS = list(itertools.product(range(-2, 18), repeat=2))
-PLAIN = ("plain", (7, 0, 255))
 WOVEN = ("woven", (255, 0, 10), (0, 255, 20), (3, 4, 250))
-# Rows of unlike colours: each tells where it stands, row first.
-SIX = [[(row, place, 200) for place in range(6)] for row in range(6)]
 PICTURE = ("picture", SIX, (0, 0), (6, 0), (0, 6))
-COATS = [
-    PLAIN, ("plain", (0, 0, 0)), ("plain", (255, 255, 255)), WOVEN, ("woven", RED, RED, RED),
-    ("woven", (0, 0, 0), (255, 255, 255), (1, 2, 3)), PICTURE,
-    ("picture", [[RED]], (0, 0), (0, 0), (0, 0)),
-    ("picture", [[RED, GREEN, BLUE]], (-3, -3), (5, 1), (1, 5)),
-    ("picture", [[RED], [GREEN], [BLUE]], (-3, -3), (5, 1), (1, 5)),
-    ("picture", SIX, (GREATEST, -GREATEST), (-GREATEST, GREATEST), (3, 3)),
-]
 
 
 def blended(numbers, found):
