@@ -35,6 +35,15 @@ def check_body(thing):
         raise NoBody("a face is a tuple of three unlike numbers of corners")
 
 
+def is_body(thing):
+    """Tell whether a thing is a body."""
+    try:
+        check_body(thing)
+    except NoBody:
+        return False
+    return True
+
+
 def sides_of(face):
     """Tell the three sides of a face of a body."""
     i, j, k = face

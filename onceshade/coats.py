@@ -4,7 +4,40 @@ from onceshade.depths import weights
 from onceshade.dots import has_dot
 from onceshade.errors import NoFace
 from onceshade.flats import turn
-from onceshade.numbers import fraction, products_added
+from onceshade.numbers import fraction, is_whole_tuple, products_added
+
+BRIGHTEST_NUMBER = 255
+MOST_IN_PICTURE = 6
+
+
+def is_colour(thing):
+    """Tell whether a thing is a colour."""
+    return is_whole_tuple(thing, 3) and all([0 <= number <= BRIGHTEST_NUMBER for number in thing])
+
+
+def are_coat_rows(thing):
+    """Tell whether a thing is the picture of a coat: one to six rows, all as long, of one to six colours."""
+    if not isinstance(thing, list) or not all([isinstance(row, list) for row in thing]):
+        return False
+    lengths = [len(row) for row in thing]
+    if not 1 <= len(thing) <= MOST_IN_PICTURE or not 1 <= min(lengths) <= MOST_IN_PICTURE:
+        return False
+    return min(lengths) == max(lengths) and all([is_colour(colour) for row in thing for colour in row])
+
+
+def is_coat(thing):
+    """Tell whether a thing is a coat."""
+    if not isinstance(thing, tuple) or len(thing) == 0:
+        return False
+    word = thing[0]
+    parts = thing[1:]
+    if word == "plain":
+        return len(parts) == 1 and is_colour(parts[0])
+    if word == "woven":
+        return len(parts) == 3 and all([is_colour(part) for part in parts])
+    if word == "picture" and len(parts) == 4:
+        return are_coat_rows(parts[0]) and all([is_whole_tuple(part, 2) for part in parts[1:]])
+    return False
 
 
 def share_tops(face, dot):

@@ -1,7 +1,7 @@
 """Moves: four rows of four whole numbers that make spots of spots [10, 11, 12]."""
 
 from onceshade.errors import Behind, NoMove
-from onceshade.numbers import is_whole, lowest_terms, products_added
+from onceshade.numbers import is_whole, is_whole_tuple, lowest_terms, products_added
 
 STILL = ((1, 0, 0, 0), (0, 1, 0, 0), (0, 0, 1, 0), (0, 0, 0, 1))
 # For each axis the two other coordinates, in the order 0, 1, 2, 0.
@@ -14,6 +14,11 @@ def still_but(changes):
         tuple([changes.get((row, place), STILL[row][place]) for place in range(4)])
         for row in range(4)
     ])
+
+
+def is_move(thing):
+    """Tell whether a thing is a move."""
+    return isinstance(thing, tuple) and len(thing) == 4 and all([is_whole_tuple(row, 4) for row in thing])
 
 
 def is_coordinate(thing):

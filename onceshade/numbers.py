@@ -54,6 +54,17 @@ def determinant(a, b, c):
     )
 
 
+def determinant_of_four(a, b, c, d):
+    """Tell the determinant of four rows of four numbers."""
+    told = 0
+    factor = 1
+    for place in range(4):
+        left = [row[:place] + row[place + 1:] for row in (b, c, d)]
+        told += factor * a[place] * determinant(left[0], left[1], left[2])
+        factor = -factor
+    return told
+
+
 def fraction(top, bottom):
     """Make the fraction of two whole numbers, the second not 0."""
     if bottom == 0:

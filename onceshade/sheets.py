@@ -4,10 +4,15 @@ from onceshade.boards import check_board
 from onceshade.coats import coat_at
 from onceshade.depths import unreduced_depth
 from onceshade.dots import has_dot
-from onceshade.numbers import fraction, is_less, whole_part
+from onceshade.numbers import fraction, is_less, is_whole, whole_part
 
 # A sheet of this cover lets nothing through.
 FULL_COVER = 8
+
+
+def is_cover(thing):
+    """Tell whether a thing is a cover: so many eighths."""
+    return is_whole(thing) and 0 <= thing <= FULL_COVER
 
 
 def as_fractions(behind):

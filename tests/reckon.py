@@ -45,5 +45,35 @@ def seen_reckoned(faces, dot):
     return min(found)[1] if found else None
 
 
+def way_between(one, other):
+    return tuple(q - p for p, q in zip(one, other))
+
+
+def straight_on(one, other):
+    return tuple(one[at - 2] * other[at - 1] - one[at - 1] * other[at - 2] for at in range(3))
+
+
+def along(one, other):
+    return sum(p * q for p, q in zip(one, other))
+
+
+def meets_reckoned(numbers, light, face):
+    """Whether the ray meets the face: where it comes to the face's flat, and on which side of each of its sides."""
+    start = standing(numbers)
+    a, b, c = [standing(corner) for corner in face]
+    straight = straight_on(way_between(a, b), way_between(a, c))
+    rise = along(straight, light)
+    if rise == 0:
+        return False
+    far = along(straight, way_between(start, a)) / rise
+    if far <= 0:
+        return False
+    place = tuple(p + far * q for p, q in zip(start, light))
+    return all(
+        along(straight, straight_on(way_between(p, q), way_between(p, place))) >= 0
+        for p, q in ((a, b), (b, c), (c, a))
+    )
+
+
 def as_pair(number):
     return (number.numerator, number.denominator)

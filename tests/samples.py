@@ -1,6 +1,6 @@
 """Bodies, spots and moves that several test files ask about."""
 
-from helpers import GREATEST
+from helpers import ANY_THINGS, GREATEST
 
 # A tetrahedron, closed: each side stands once, and its fellow once.
 TETRAHEDRON = ([(0, 0, 0), (4, 0, 0), (0, 4, 0), (0, 0, 4)], [(0, 1, 2), (0, 3, 1), (0, 2, 3), (1, 3, 2)])
@@ -48,6 +48,13 @@ BOARDS = [(1, 1), (16, 16), (1, 16), (16, 1), (5, 4), (4, 5), (7, 16)]
 NO_BOARDS = [
     (0, 4), (4, 0), (17, 4), (4, 17), (-1, 4), (4, -1), (True, 4), (4, True), (False, 4), [4, 4], (4,), (4, 4, 4),
     4, "44", ("4", 4), (4, None), (GREATEST, 4), ((4, 4),), ([4], 4), None, True, (), [],
+]
+SIDES = list(range(1, 17))
+NO_SIDES = [thing for thing in ANY_THINGS if type(thing) is not int or thing not in SIDES]
+NO_SIDES += [0, 17, -1, 18, True, False, None, "4", [4], (4,), (4, 4)]
+NO_LIGHTS = [thing for thing in ANY_THINGS if thing != (1, 2, 3)] + [
+    (0, 0, 0), (True, 0, 0), (0, 0, True), (1, False, 1), (False, False, False), [1, 2, 3], [0, 0, 0], (1, 2), (1, 2, 3, 4),
+    (1,), (), 5, "123", (1, 2, "3"), (None, 1, 1), ((1, 2, 3),), ([1], 2, 3), (1, (2,), 3),
 ]
 
 # Faces on the board; those of the first row are told by whole places.
@@ -109,4 +116,58 @@ COATS = [
     ("picture", [[RED, GREEN, BLUE]], (-3, -3), (5, 1), (1, 5)),
     ("picture", [[RED], [GREEN], [BLUE]], (-3, -3), (5, 1), (1, 5)),
     ("picture", SIX, (GREATEST, -GREATEST), (-GREATEST, GREATEST), (3, 3)),
+]
+
+# What is no move, no coat, no cover: any thing, and what is nearly one.
+NO_MOVES = ANY_THINGS + [
+    list(STILL), STILL[:3], STILL + (STILL[0],), STILL[:3] + ([0, 0, 0, 1],), STILL[:3] + ((0, 0, 0),),
+    STILL[:3] + ((0, 0, 0, 1, 0),), STILL[:3] + ((0, 0, 0, True),), STILL[:3] + ((0, 0, False, 1),),
+    STILL[:3] + ((0, 0, 0, "1"),), STILL[:3] + ((0, 0, 0, None),), STILL[:3] + (None,), (STILL,) * 4, (1,) * 16, ((1,) * 16,),
+    ((), (), (), ()), ((1, 0, 0, (0,)),) + STILL[1:],
+]
+NO_COLOURS = ANY_THINGS[:10] + [
+    (), (1, 2), (1, 2, 3, 4), [1, 2, 3], (256, 0, 0), (0, 256, 0), (0, 0, 256), (-1, 0, 0), (0, -1, 0), (0, 0, -1),
+    (True, 0, 0), (0, False, 0), (0, 0, True), (0, 0, "0"), (0, 0, None), (0, 0, (0,)), "ff0000", ((1, 2, 3),),
+]
+UVS = ((0, 0), (1, 0), (0, 1))
+NO_COAT_ROWS = [
+    [], [[]], [[], []], [[RED], []], [[], [RED]], [[RED, RED], [RED]], [[RED], [RED, RED]], [[RED]] * 7, [[RED] * 7],
+    [[RED] * 6] * 7, [[RED] * 7] * 6, ([RED],), [(RED,)], [[RED], (RED,)], [[[255, 0, 0]]], [RED], RED, None, True, 1, "", "a",
+    [[RED], None], [None, [RED]], [[RED], 1], ["a"], [[RED], "a"], [["a"]], [[[RED]]], [[RED]] * 500,
+]
+NO_COATS = ANY_THINGS + [
+    ("plain",), ("plain", RED, RED), ["plain", RED], ("Plain", RED), ("", RED), (None, RED), (["plain"], RED), RED, (RED,),
+    ("plain ", RED), ("woven", RED), ("woven", RED, RED), ("woven", RED, RED, RED, RED), ["woven", RED, RED, RED],
+    ("woven", (RED, RED, RED)), ("woven", [RED, RED, RED]), ("picture",), ("picture", [[RED]]), ["picture", [[RED]], *UVS],
+    ("picture", [[RED]], *UVS[:2]), ("picture", [[RED]], *UVS, (0, 0)), ("picture", [[RED]], UVS), (True, RED),
+    ("picture", *UVS, [[RED]]), ("other", RED), ("other", [[RED]], *UVS), ("woven", [[RED]], *UVS), ("plain", [[RED]], *UVS),
+]
+for colour in NO_COLOURS:
+    NO_COATS += [
+        ("plain", colour), ("woven", colour, RED, RED), ("woven", RED, colour, RED), ("woven", RED, RED, colour),
+        ("picture", [[colour]], *UVS), ("picture", [[RED, RED], [RED, colour]], *UVS),
+    ]
+NO_COATS += [("picture", rows, *UVS) for rows in NO_COAT_ROWS]
+for pair in [None, True, 0, "00", (), (0,), (0, 0, 0), [0, 0], (True, 0), (0, False), (0, None), ("0", 0), ((0, 0),), (0, (0,))]:
+    NO_COATS += [
+        ("picture", [[RED]], *UVS[:place], pair, *UVS[place + 1:]) for place in range(3)
+    ]
+NO_COVERS = [thing for thing in ANY_THINGS if type(thing) is not int or not 0 <= thing <= 8] + [
+    -1, 9, 10, True, False, "8", [8], (8,), 10 ** 400, -10 ** 400,
+]
+NO_BODY_PARTS = ANY_THINGS + [
+    list(TRIANGLE), TRIANGLE + ([],), (TRIANGLE[0],), ([], []), ([], [(0, 1, 2)]), (tuple(TRIANGLE[0]), TRIANGLE[1]),
+    (TRIANGLE[0], tuple(TRIANGLE[1])), (TRIANGLE[0], [(0, 1, 3)]), (TRIANGLE[0], [(0, 1, 1)]), (TRIANGLE[0], [(0, 1, -1)]),
+    (TRIANGLE[0], [(0, 1, True)]), (TRIANGLE[0], [[0, 1, 2]]), ([(0, 0, 1000000)], []), ([(0, 0, -1000000)], []),
+    ([(0, 0)], []), ([(0, 0, True)], []), ([[0, 0, 0]], []), ([(0, 0, 0)] * 25, []), (TRIANGLE[0], [(0, 1, 2)] * 25), "0 0 0:",
+]
+# Neither a deed nor one with a part that is not of its kind; what is nearly one is among these.
+NO_DEEDS = ANY_THINGS + [
+    "push", ["push"], ("push", "push"), ("push", None), ("push", ()), ("Push",), ("push ",), ("",), (None,), (["push"],),
+    (("push",),), ("pop", 1), ["pop"], ("move",), ("move", STILL, STILL), ["move", STILL], ("moves", STILL), (STILL, "move"),
+    ("coat",), ("coat", ("plain", RED), ("plain", RED)), ["coat", ("plain", RED)], ("coat", "plain", RED), ("plain", RED),
+    ("cover",), ("cover", 8, 8), ["cover", 8], ("Cover", 8), (8, "cover"), (None, 8), ("cover", "8"), ("draw",),
+    ("draw", TRIANGLE, TRIANGLE), ["draw", TRIANGLE], ("draw", *TRIANGLE), ("Draw", TRIANGLE), (True, TRIANGLE), TRIANGLE,
+    ("undo",), ("count",), ("dot", 1), (["draw"], TRIANGLE), (("draw",), TRIANGLE), ("", STILL), STILL, ("push", "pop"),
+    (), ("move", None), ("push",) * 60,
 ]

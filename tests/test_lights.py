@@ -4,16 +4,12 @@ import unittest
 
 from onceshade.errors import NoLight
 from onceshade.lights import lit, step_of
-from helpers import ANY_THINGS, GREATEST, is_tuple_of_whole, refused
+from helpers import GREATEST, is_tuple_of_whole, refused
+from samples import NO_LIGHTS
 
 # The face of these looks along the third coordinate: n is (0, 0, 1).
 ORIGIN, RIGHT, DOWN = (0, 0, 0), (1, 0, 0), (0, 1, 0)
 SIX_FIGURES = 999999
-NO_LIGHTS = ANY_THINGS + [
-    (0, 0, 0), (True, 0, 0), (0, 0, True), (1, False, 1), (False, False, False), [1, 2, 3], [0, 0, 0], (1, 2), (1, 2, 3, 4),
-    (1,), (), 5, "123", (1, 2, "3"), (None, 1, 1), ((1, 2, 3),), ([1], 2, 3), (1, (2,), 3),
-]
-NO_LIGHTS = [thing for thing in NO_LIGHTS if thing != (1, 2, 3)]
 
 
 def step_reckoned(a, b, c, light):

@@ -1,9 +1,11 @@
+import itertools
 import math
+import random
 import unittest
 from fractions import Fraction
 
 from onceshade.errors import NoFraction
-from onceshade.numbers import fraction, is_less, is_whole, less, plus, times, whole_part
+from onceshade.numbers import determinant_of_four, fraction, is_less, is_whole, less, plus, times, whole_part
 from helpers import GREATEST, is_tuple_of_whole, refused
 
 SAMPLES = [
@@ -25,6 +27,18 @@ class Whole(unittest.TestCase):
     def test_truths_and_others_are_none(self):
         for thing in [True, False, None, "1", "", [], [1], (), (1,)]:
             self.assertIs(is_whole(thing), False)
+
+
+class Determinants(unittest.TestCase):
+    def test_four_rows_by_all_orders_of_places(self):
+        chance = random.Random(4)
+        for step in range(50):
+            rows = [tuple(chance.randint(-9, 9) for place in range(4)) for row in range(4)]
+            expected = 0
+            for order in itertools.permutations(range(4)):
+                swaps = sum(one > other for one, other in itertools.combinations(order, 2))
+                expected += (-1) ** swaps * math.prod(row[place] for row, place in zip(rows, order))
+            self.assertEqual(determinant_of_four(*rows), expected)
 
 
 class Making(unittest.TestCase):

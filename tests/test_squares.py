@@ -7,11 +7,7 @@ from onceshade.errors import NoBoard
 from onceshade.squares import painted_by_squares, part_of, squares_of
 from helpers import ANY_THINGS, asks_again, is_tuple_of_whole, refused
 from reckon import depth_reckoned, has_reckoned
-from samples import BOARD_FACES, BOARDS, EDGE_ON, HERE, NO_BOARDS, SLANTED, WHOLE_FACES
-
-SIDES = list(range(1, 17))
-NO_SIDES = [thing for thing in ANY_THINGS if type(thing) is not int or thing not in SIDES]
-NO_SIDES += [0, 17, -1, 18, True, False, None, "4", [4], (4,), (4, 4)]
+from samples import BOARD_FACES, BOARDS, EDGE_ON, HERE, NO_BOARDS, NO_SIDES, SIDES, SLANTED, WHOLE_FACES
 
 
 def level(depth):
