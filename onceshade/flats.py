@@ -17,9 +17,14 @@ def area(face):
     return fraction(turn(face), a[3] * b[3] * c[3])
 
 
+def is_flat(thing):
+    """Tell whether a thing is a flat."""
+    return is_whole_tuple(thing, 4) and thing[:3] != (0, 0, 0)
+
+
 def check_flat(thing):
     """Refuse what is no flat with NoFlat."""
-    if not is_whole_tuple(thing, 4) or thing[:3] == (0, 0, 0):
+    if not is_flat(thing):
         raise NoFlat("a flat is a tuple of four whole numbers, not all of the first three 0")
 
 

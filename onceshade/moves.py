@@ -83,5 +83,7 @@ def moved(move, spot):
 def faces_seen(body, move):
     """Tell the faces of a body seen by a move, in order."""
     corners, faces = body
-    # Corner by corner of the faces: one that no face has may be behind.
-    return [tuple([moved(move, corners[at] + (1,)) for at in face]) for face in faces]
+    # Only the corners of faces, each once: one that no face has may be behind, and great numbers take long.
+    used = sorted({at for face in faces for at in face})
+    spots = {at: moved(move, corners[at] + (1,)) for at in used}
+    return [tuple([spots[at] for at in face]) for face in faces]

@@ -1,7 +1,7 @@
 """Spots, dots, and the side of two spots at a dot [5, 6]."""
 
 from onceshade.errors import NoSpot
-from onceshade.numbers import determinant, lowest_terms, sign
+from onceshade.numbers import determinant, is_whole_tuple, lowest_terms, sign
 
 
 def spot(x, y, z, w):
@@ -9,6 +9,11 @@ def spot(x, y, z, w):
     if w == 0:
         raise NoSpot("the last number of a spot is not 0")
     return lowest_terms((x, y, z, w))
+
+
+def is_spot(thing):
+    """Tell whether a thing is a spot."""
+    return is_whole_tuple(thing, 4) and thing[3] > 0 and lowest_terms(thing) == thing
 
 
 def on_board(a):

@@ -1,5 +1,7 @@
 """What is told of faces at dots, reckoned another way: by Python's fractions, from where the spots stand."""
 
+import itertools
+import math
 from fractions import Fraction
 
 # So little, beside the numbers of all faces asked about, that it stands for next to nothing.
@@ -73,6 +75,15 @@ def meets_reckoned(numbers, light, face):
         along(straight, straight_on(way_between(p, q), way_between(p, place))) >= 0
         for p, q in ((a, b), (b, c), (c, a))
     )
+
+
+def four_rows_reckoned(rows):
+    """The determinant of four rows, by all orders of their places."""
+    told = 0
+    for order in itertools.permutations(range(4)):
+        swaps = sum(one > other for one, other in itertools.combinations(order, 2))
+        told += (-1) ** swaps * math.prod(row[place] for row, place in zip(rows, order))
+    return told
 
 
 def as_pair(number):

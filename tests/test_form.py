@@ -21,6 +21,13 @@ BARRED_NAMES = set(
     " copyright credits delattr dir eval exec exit gc getattr globals hasattr help id importlib license locals"
     " methodcaller os quit setattr super type vars sys format format_map".split()
 )
+METHODS = set(
+    "append clear copy count endswith extend find get index insert isalnum isalpha isdigit islower isspace isupper items"
+    " join keys ljust lower lstrip partition pop remove replace reverse rfind rjust rpartition rsplit rstrip setdefault"
+    " split splitlines startswith strip update upper values zfill bit_length".split()
+)
+# As attributes: what strings, numbers, lists, dicts, sets and bytes have is barred too, but for a few of these.
+BARRED_ATTRIBUTES = {name for kind in (str, int, list, dict, set, bytes) for name in dir(kind)} | {"args"}
 BARRED_SYNTAX = (
     ast.With, ast.Match, ast.Global, ast.Nonlocal, ast.Yield, ast.YieldFrom, ast.AsyncFor, ast.AsyncFunctionDef,
     ast.AsyncWith, ast.Await, ast.GeneratorExp, ast.NamedExpr, ast.Import, ast.Div, ast.MatMult, ast.TryStar,
@@ -138,9 +145,29 @@ class Form(unittest.TestCase):
             for name in bound:
                 self.assertTrue(re.fullmatch(r"[A-Za-z][A-Za-z0-9_]*|__init__|__eq__|__repr__|__str__|__len__", name), name)
                 self.assertNotIn(name, BARRED_NAMES, path)
-                self.assertFalse(hasattr(builtins, name), (path.name, name))
+                self.assertFalse(hasattr(builtins, name) and name != "__init__", (path.name, name))
             for name in imported | classes:
                 self.assertEqual(bound.count(name), 1, (path.name, name))
+
+    def test_methods_and_attributes(self):
+        own = set()
+        for path, tree in trees():
+            for node in ast.walk(tree):
+                if isinstance(node, ast.ClassDef):
+                    own |= {part.name for part in node.body if isinstance(part, ast.FunctionDef)}
+        assigned = {
+            node.attr
+            for path, tree in trees() for node in ast.walk(tree)
+            if isinstance(node, ast.Attribute) and isinstance(node.ctx, ast.Store)
+        }
+        self.assertFalse(own & assigned)
+        self.assertFalse(assigned & BARRED_ATTRIBUTES)
+        for path, tree in trees():
+            called = [node.func for node in ast.walk(tree) if isinstance(node, ast.Call)]
+            for node in ast.walk(tree):
+                if isinstance(node, ast.Attribute):
+                    allowed = own | METHODS if node in called else assigned
+                    self.assertIn(node.attr, allowed, (path.name, node.lineno))
 
     def test_builtins(self):
         for path, tree in trees():

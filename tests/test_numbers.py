@@ -1,4 +1,3 @@
-import itertools
 import math
 import random
 import unittest
@@ -7,6 +6,7 @@ from fractions import Fraction
 from onceshade.errors import NoFraction
 from onceshade.numbers import determinant_of_four, fraction, is_less, is_whole, less, plus, times, whole_part
 from helpers import GREATEST, is_tuple_of_whole, refused
+from reckon import four_rows_reckoned
 
 SAMPLES = [
     (0, 1), (1, 1), (-1, 1), (1, 2), (-1, 2), (2, 3), (-2, 3), (3, 2), (-3, 2), (5, 6), (-5, 6), (7, 1), (-7, 1),
@@ -34,11 +34,7 @@ class Determinants(unittest.TestCase):
         chance = random.Random(4)
         for step in range(50):
             rows = [tuple(chance.randint(-9, 9) for place in range(4)) for row in range(4)]
-            expected = 0
-            for order in itertools.permutations(range(4)):
-                swaps = sum(one > other for one, other in itertools.combinations(order, 2))
-                expected += (-1) ** swaps * math.prod(row[place] for row, place in zip(rows, order))
-            self.assertEqual(determinant_of_four(*rows), expected)
+            self.assertEqual(determinant_of_four(*rows), four_rows_reckoned(rows))
 
 
 class Making(unittest.TestCase):
